@@ -1,0 +1,1 @@
+"""Handedon: givers that hand out worths and hand on to one another."""
