@@ -94,6 +94,18 @@ class LanguageTest(unittest.TestCase):
                 if isinstance(node, ast.Compare) and any(isinstance(sign, (ast.Is, ast.IsNot)) for sign in node.ops):
                     self.assertIsInstance(node.comparators[0], ast.Constant, name)
 
+    def test_handlers_take_refusals_by_name(self):
+        refusals = {node.name for name, tree in trees() if name == "errors.py" for node in tree.body
+                    if isinstance(node, ast.ClassDef)}
+        for name, tree in trees():
+            for node in ast.walk(tree):
+                if isinstance(node, ast.ExceptHandler):
+                    self.assertIsInstance(node.type, ast.Name, name)
+                    self.assertIn(node.type.id, refusals, name)
+                if isinstance(node, ast.Raise) and node.exc is not None:
+                    self.assertIsInstance(node.exc, ast.Call, name)
+                    self.assertIn(node.exc.func.id, refusals, name)
+
     def test_names(self):
         for name, tree in trees():
             bound = bound_names(tree)
