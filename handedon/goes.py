@@ -24,6 +24,26 @@ def leads_to_lasts(deed, number):
     return has_lasts(deed) and not is_in_lasts(deed, number)
 
 
+def lasts_around(rule, place):
+    """The places of the tries in whose lasts the place lies, outermost first."""
+    found = [outer for outer, deed, number in around(rule, place) if deed[0] == "try" and is_in_lasts(deed, number)]
+    return found[::-1]
+
+
+def tries_around(rule, place):
+    """The places of the tries with lasts in whose own block or catches the place lies, outermost first."""
+    found = [outer for outer, deed, number in around(rule, place) if leads_to_lasts(deed, number)]
+    return found[::-1]
+
+
+def while_around(rule, place):
+    """The place of the innermost while around the place, or None."""
+    for outer, deed, number in around(rule, place):
+        if deed[0] == "while":
+            return outer
+    return None
+
+
 def catch_of(deed, number, word):
     """The number of the catch that takes a fault of this word out of the deed's block, or None."""
     if deed[0] != "try" or number != 0:

@@ -2,6 +2,7 @@
 
 from handedon.errors import NoText
 
+NONE = ("none",)
 MOST_FIGURES = 30
 BEYOND_NUMBERS = 10 ** 30
 MOST_LETTERS = 8
@@ -78,7 +79,7 @@ def sign_told(sign, a, b):
 
 def is_yes(worth):
     """Whether the worth is a yes."""
-    return worth != ("none",) and worth != ("number", 0)
+    return worth != NONE and worth != ("number", 0)
 
 
 def worth_text(worth):
@@ -109,7 +110,7 @@ def read_worth(text):
     if not isinstance(text, str):
         raise NoText(0)
     if text == "none":
-        return ("none",)
+        return NONE
     if text.startswith("#") and is_figures(text[1:], MOST_GIVER_FIGURES):
         return ("giver", int(text[1:]))
     if is_number_text(text):

@@ -3,7 +3,7 @@
 import copy
 import unittest
 
-from handedon.goes import behind, end_goes, fault_goes, leave_goes
+from handedon.goes import behind, end_goes, fault_goes, lasts_around, leave_goes, tries_around, while_around
 from handedon.places import places
 from tests.makers import books
 from tests.samples import FULL_RULE, NONE, TINY_RULE
@@ -272,6 +272,36 @@ class BehindTest(GoesTest):
     def test_end_fault_and_leave_are_followed_like_others(self):
         deeds = rule(a_while(("leave",), ("end", NONE), ("fault", "ring", NONE)))
         self.follows(deeds, {(0, 0, 0): ("deed", (0, 0, 1)), (0, 0, 1): ("deed", (0, 0, 2)), (0, 0, 2): ("test", (0,))})
+
+
+class AroundTest(unittest.TestCase):
+    def test_tries_and_whiles_around_a_place(self):
+        deeds = rule(a_while(a_try((a_try((NOTE,), (("a", (a_while(NOTE),)),), (a_try((NOTE,), (), (NOTE,)),)),), (), (
+            a_try((NOTE,), (), (a_while(NOTE),)),))))
+        outer, inner, third = (0, 0, 0), (0, 0, 0, 0, 0), (0, 0, 0, 0, 0, 2, 0)
+        last = (0, 0, 0, 1, 0)
+        for place, lasts, tries, loop in (
+            ((0,), [], [], None),
+            (outer, [], [], (0,)),
+            (inner, [], [outer], (0,)),
+            (inner + (0, 0), [], [outer, inner], (0,)),
+            (inner + (1, 0), [], [outer, inner], (0,)),
+            (inner + (1, 0, 0, 0), [], [outer, inner], inner + (1, 0)),
+            (third, [inner], [outer], (0,)),
+            (third + (0, 0), [inner], [outer, third], (0,)),
+            (third + (1, 0), [inner, third], [outer], (0,)),
+            (last, [outer], [], (0,)),
+            (last + (0, 0), [outer], [last], (0,)),
+            (last + (1, 0, 0, 0), [outer, last], [], last + (1, 0)),
+        ):
+            self.assertEqual(lasts_around(deeds, place), lasts, place)
+            self.assertEqual(tries_around(deeds, place), tries, place)
+            self.assertEqual(while_around(deeds, place), loop, place)
+
+    def test_a_try_without_lasts_is_never_open(self):
+        deeds = rule(a_try((NOTE,), (("a", (NOTE,)),)))
+        for place in places(deeds):
+            self.assertEqual((lasts_around(deeds, place), tries_around(deeds, place)), ([], []))
 
 
 class AllOfItTest(GoesTest):

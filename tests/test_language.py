@@ -141,6 +141,27 @@ class LanguageTest(unittest.TestCase):
                 if isinstance(node, ast.Attribute):
                     self.assertIn(node.attr, free, name)
 
+    def test_methods_and_values_have_unlike_names(self):
+        methods, values = set(), set()
+        for name, tree in trees():
+            for node in ast.walk(tree):
+                if isinstance(node, ast.ClassDef):
+                    methods.update(part.name for part in node.body if isinstance(part, ast.FunctionDef))
+                elif isinstance(node, ast.Attribute) and isinstance(node.ctx, ast.Store):
+                    values.add(node.attr)
+                    self.assertIsInstance(node.value, ast.Name, (name, node.attr))
+        self.assertEqual(methods & values, set())
+
+    def test_locals_are_not_called_like_imports_or_classes(self):
+        for name, tree in trees():
+            shut = {alias.name for row in imports(tree) for alias in row.names}
+            shut |= {node.name for node in tree.body if isinstance(node, ast.ClassDef)}
+            for node in ast.walk(tree):
+                if isinstance(node, ast.arg):
+                    self.assertNotIn(node.arg, shut, name)
+                elif isinstance(node, ast.Name) and isinstance(node.ctx, ast.Store):
+                    self.assertNotIn(node.id, shut, name)
+
     def test_imports_come_from_the_defining_file_and_never_round(self):
         tops = {}
         draws = {}
