@@ -3,28 +3,10 @@
 A draft is the rows, but that in the place of each row's number stands what behind tells to come there, or -1.
 """
 
-from handedon.goes import behind, while_around
+from handedon.coderows import ROW_WORDS, due_of, left_to, stands_for, tells_number
+from handedon.goes import behind
 from handedon.places import deed_at, has_lasts, places
 from handedon.shapes import blocks_of
-
-# For the first word of each deed without others in it, that of its row.
-ROW_WORDS = {
-    "let": "deed",
-    "note": "deed",
-    "ask": "deed",
-    "cast": "deed",
-    "close": "deed",
-    "give": "stand",
-    "on": "stand",
-    "end": "end",
-    "fault": "fault",
-}
-
-
-def left_to(rule, place):
-    """What comes where a leave goes from the place to no lasts; -1 where no while is around it."""
-    outer = while_around(rule, place)
-    return -1 if outer is None else behind(rule, outer)
 
 
 def draft_block(rule, block, ahead):
@@ -82,23 +64,14 @@ def draft_deed(rule, place):
 
 def numbers_of(draft):
     """For each thing that may come behind a deed, the number of the draft's row for it."""
-    numbers = {}
-    for number, row in enumerate(draft):
-        if row[0] == "done":
-            numbers[("end",)] = number
-        elif row[0] == "last" or row[0] == "resume":
-            numbers[(row[0], row[1])] = number
-        elif row[0] != "jump":
-            numbers[("deed", row[1])] = number
-            numbers[("test", row[1])] = number
-    return numbers
+    return {stands_for(row): number for number, row in enumerate(draft) if row[0] != "jump"}
 
 
 def numbered(row, numbers):
     """The draft's row with the number of a row where one is told."""
-    if row[0] not in ("test", "jump", "leave", "resume") or row[-1] == -1:
+    if not tells_number(row) or row[-1] == -1:
         return row
-    return row[:-1] + (numbers[row[-1]],)
+    return row[:-1] + (numbers[due_of(row[-1])],)
 
 
 def guards_of(rule, place, numbers):

@@ -14,9 +14,14 @@ def around(rule, place):
     return found
 
 
+def lasts_number(deed):
+    """The number of the try's lasts among its blocks."""
+    return len(deed[2]) + 1
+
+
 def is_in_lasts(deed, number):
     """Whether this number is that of the try's lasts."""
-    return number == len(deed[2]) + 1
+    return number == lasts_number(deed)
 
 
 def leads_to_lasts(deed, number):
@@ -81,6 +86,15 @@ def leave_goes(rule, place):
         if leads_to_lasts(deed, number):
             return ("last", outer)
     return ("out",)
+
+
+def goes_of(rule, place, thing):
+    """Where the fault, end or leave goes from the place."""
+    if thing[0] == "fault":
+        return fault_goes(rule, place, thing[1])
+    if thing[0] == "end":
+        return end_goes(rule, place)
+    return leave_goes(rule, place)
 
 
 def block_around(rule, place):

@@ -5,7 +5,7 @@ from handedon.books import is_book, rule_of
 from handedon.deeds import MOST_GIVERS
 from handedon.errors import Full, NoAsk, NoBook, NoGiver, NoMost, NoWorth
 from handedon.givers import copied, kept_giver, new_giver, state_told, worths_held
-from handedon.worths import is_whole, is_worth
+from handedon.worths import is_below, is_whole, is_worth
 
 MOST_MOST = 300
 
@@ -69,7 +69,7 @@ class Hall:
 
     def giver_at(self, k):
         """The giver of this number, or NoGiver."""
-        if not is_whole(k) or not 0 <= k < self.many():
+        if not is_below(k, self.many()):
             raise NoGiver("no giver of this number")
         return self.givers[k]
 

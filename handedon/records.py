@@ -2,7 +2,7 @@
 
 from handedon.asks import CLOSED, is_how
 from handedon.deeds import MOST_GIVERS
-from handedon.worths import is_whole, is_word, is_worth
+from handedon.worths import is_below, is_word, is_worth
 
 MOST_TRIES = 30
 # For each row's first word the kinds of its other parts, in order.
@@ -23,11 +23,6 @@ ROWS = {
     "out": ("giver", "word", "worth"),
     "answered": ("answer",),
 }
-
-
-def is_below(thing, many):
-    """Whether the thing is a whole number from 0 on, below many."""
-    return is_whole(thing) and 0 <= thing < many
 
 
 def is_answer(thing):

@@ -4,42 +4,18 @@ A walk goes from one of these to another, until it is none of them: what goes.py
 ("deed", place), ("test", place), ("last", place), ("resume", place), ("end",).
 """
 
-from handedon.deeds import begin_deed, take_way, try_row
-from handedon.goes import behind, end_goes, fault_goes, lasts_around, leave_goes
+from handedon.deeds import begin_deed, take_way
+from handedon.goes import behind, goes_of, lasts_number
 from handedon.halls import Hall, chain_of
+from handedon.outward import GO, drop_pendings, enter_catch, enter_lasts, gone_out, pending_taken
 from handedon.places import deed_at
 from handedon.worths import NONE
 
 
-def goes_of(rule, place, thing):
-    """Where the fault, end or leave goes from the place."""
-    if thing[0] == "fault":
-        return fault_goes(rule, place, thing[1])
-    if thing[0] == "end":
-        return end_goes(rule, place)
-    return leave_goes(rule, place)
-
-
-def gone_out(thing):
-    """What comes of a giver out of which the fault or end goes."""
-    if thing[0] == "end":
-        return ("ends", thing[1])
-    return ("falls", thing[1], thing[2])
-
-
 def begin_lasts(hall, giver, place, pending):
     """Begins the lasts of the try at the place, behind which the pending is to come."""
-    giver.pendings = giver.pendings + (pending,)
-    hall.rows.append(try_row("last", giver, place))
-    lasts = len(deed_at(giver.rule, place)[2]) + 1
-    return ("deed", place + (lasts, 0))
-
-
-def begin_catch(giver, place, number, worth):
-    """Begins the catch of this number of the try at the place, with the fault's worth."""
-    caught, name, block = deed_at(giver.rule, place)[2][number]
-    giver.held[name] = worth
-    return ("deed", place + (number + 1, 0))
+    enter_lasts(hall, giver, place, pending)
+    return ("deed", place + (lasts_number(deed_at(giver.rule, place)), 0))
 
 
 def go_outward(hall, giver, place, thing):
@@ -47,10 +23,10 @@ def go_outward(hall, giver, place, thing):
     goes = goes_of(giver.rule, place, thing)
     if goes[0] == "out":
         return gone_out(thing)
-    # Lasts that are gone out of come to their end no more: what was to come behind them is dropped.
-    giver.pendings = giver.pendings[:len(lasts_around(giver.rule, goes[1]))]
+    drop_pendings(giver, goes[1])
     if goes[0] == "catch":
-        return begin_catch(giver, goes[1], goes[2], thing[2])
+        enter_catch(giver, goes[1], goes[2], thing[2])
+        return ("deed", goes[1] + (goes[2] + 1, 0))
     if goes[0] == "last":
         return begin_lasts(hall, giver, goes[1], thing)
     return behind(giver.rule, goes[1])
@@ -74,14 +50,13 @@ def walk_deed(hall, giver, at):
 
 def walk_last(hall, giver, at):
     """Comes to lasts from a block that is through."""
-    return begin_lasts(hall, giver, at[1], ("go",))
+    return begin_lasts(hall, giver, at[1], GO)
 
 
 def walk_resume(hall, giver, at):
     """Comes to the end of lasts."""
-    pending = giver.pendings[-1]
-    giver.pendings = giver.pendings[:-1]
-    if pending == ("go",):
+    pending = pending_taken(giver)
+    if pending == GO:
         return behind(giver.rule, at[1])
     return go_outward(hall, giver, at[1], pending)
 

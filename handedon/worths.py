@@ -16,6 +16,11 @@ def is_whole(thing):
     return isinstance(thing, int) and not isinstance(thing, bool)
 
 
+def is_below(thing, many):
+    """Whether the thing is a whole number from 0 on, below many."""
+    return is_whole(thing) and 0 <= thing < many
+
+
 def has_only(text, signs):
     """Whether each sign of the text is one of these signs."""
     return all([sign in signs for sign in text])

@@ -1,4 +1,10 @@
-"""Whether a thing is a code of a rule, clause by clause: what is amiss is told as an error of the test."""
+"""Whether a thing is a code of a rule, clause by clause: what is amiss is told as an error of the test.
+
+Of whatever thing the form is told a second time, in another way: by patterns of how Python shows it.
+"""
+
+import re
+import unittest
 
 from handedon.goes import behind, end_goes, fault_goes, leave_goes
 from handedon.places import deed_at, places, stands_of, tries_of
@@ -120,6 +126,7 @@ class CodeLook:
         if row[0] in ("leave", "resume"):
             whiles = whiles_around(self.rule, place)
             if whiles:
+                self.number(row[2])
                 self.told_led(row[2], behind(self.rule, whiles[-1]))
             else:
                 self.case.assertEqual(row[2], -1)
@@ -166,3 +173,52 @@ class CodeLook:
         else:
             self.case.assertIsNone(number)
             self.case.assertEqual(self.led(t), ("last", place))
+
+
+NUMBER = "(?:0|[1-9][0-9]{0,2})"
+
+
+def row_patterns(rule):
+    """Patterns of how Python shows the rows that a code of the rule may have."""
+    shown = [r"\('done',\)", rf"\('jump', {NUMBER}\)"]
+    for place in places(rule):
+        word = WORDS[deed_at(rule, place)[0]]
+        number = f", {NUMBER}" if LENGTHS[word] == 3 else ""
+        shown.append(rf"\('{word}', {re.escape(repr(place))}{number}\)")
+    for place in tries_of(rule):
+        shown.append(rf"\('last', {re.escape(repr(place))}\)")
+        shown.append(rf"\('resume', {re.escape(repr(place))}, (?:-1|{NUMBER})\)")
+    return shown
+
+
+def guard_patterns(rule):
+    """Patterns of how Python shows the guards that a code of the rule may have."""
+    shown = [r"(?!)"]
+    for place in places(rule):
+        deed = deed_at(rule, place)
+        if deed[0] == "try":
+            catches = [r"\(\)", r"\(\)", rf"\({NUMBER},\)"] + [rf"\({NUMBER}{f', {NUMBER}' * n}\)" for n in (1, 2)]
+            some = f"(?:{catches[0]}|{catches[len(deed[2]) + 1]})"
+            shown.append(rf"\({NUMBER}, {NUMBER}, {re.escape(repr(place))}, {some}, (?:-1|{NUMBER})\)")
+    return shown
+
+
+def is_shown(thing, patterns, least, most):
+    """Whether the thing is a tuple of at least and at most so many, each shown by one of the patterns."""
+    if type(thing) is not tuple or not least <= len(thing) <= most:
+        return False
+    pattern = re.compile("|".join(patterns))
+    return all(type(part) is tuple and pattern.fullmatch(repr(part)) for part in thing)
+
+
+def second_is_code(rule, thing):
+    """Whether the thing, whatever it is, is a code of the rule."""
+    if type(thing) is not tuple or len(thing) != 2:
+        return False
+    if not is_shown(thing[0], row_patterns(rule), 1, 300) or not is_shown(thing[1], guard_patterns(rule), 0, 100):
+        return False
+    try:
+        CodeLook(unittest.TestCase(), rule, thing).whole()
+    except AssertionError:
+        return False
+    return True

@@ -227,6 +227,10 @@ def code_run(run, rows, guards):
     at, guarded = 0, False
     while rows[at] != ("done",):
         row = rows[at]
+        if row[0] == "jump":
+            # Lasts to which a guard leads through jumps are come to by the guard.
+            at = row[1]
+            continue
         came_by_guard, guarded = guarded, False
         try:
             at = yield from code_row(run, rows, at, came_by_guard)
@@ -237,8 +241,6 @@ def code_run(run, rows, guards):
 def code_row(run, rows, at, guarded):
     """Does one row; tells the number of the next one."""
     row = rows[at]
-    if row[0] == "jump":
-        return row[1]
     if row[0] == "last":
         run.try_row("last", row[1])
         if not guarded:

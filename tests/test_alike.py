@@ -2,9 +2,11 @@
 
 import unittest
 
-from handedon.codes import codes_of
+from handedon.codes import code_of, codes_of
 from handedon.looker import lets_record
+from handedon.shorter import shortened
 from handedon.treehall import TreeHall
+from tests.code_making import varied
 from tests.halling import STOPPED, whole
 from tests.lively import Lively, most_of
 from tests.second import SecondHall, code_way, tree_way
@@ -58,6 +60,11 @@ class AlikeTest(unittest.TestCase):
 
     def test_by_codes(self):
         self.alike(range(SEEDS, SEEDS + 200), lambda book: code_way(dict(zip(book, codes_of(book)))))
+
+    def test_by_other_codes(self):
+        """Whatever is a code of a rule runs as the rule does: varied ones, and these shortened."""
+        for make in (varied, lambda code, seed: shortened(varied(code, seed))):
+            self.alike(range(SEEDS, SEEDS + 150), lambda book: code_way({rule: make(code_of(rule), len(repr(rule))) for rule in book}))
 
 
 if __name__ == "__main__":
