@@ -127,6 +127,7 @@ def after_hands_on(hall, came):
     giver = hall.givers[runner(hall.midst)]
     hall.rows.append(("on", giver.number, g))
     giver.inner = g
+    giver.handed += 1
     hall.midst[-1].line.extend(chain)
     return meet_end(hall, ("send", NONE))
 

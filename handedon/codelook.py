@@ -42,7 +42,7 @@ def is_place(deeds, thing):
 
 def is_number(thing, many):
     """Whether the thing is the number of one of so many rows, or -1."""
-    return is_below(thing, many) or is_whole(thing) and thing == -1
+    return is_below(thing, many) or thing == -1
 
 
 def is_code_part(deeds, many, kind, part):

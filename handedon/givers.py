@@ -8,8 +8,10 @@ from handedon.worths import NONE
 class Giver:
     """A giver of a hall: its number and rule, the worths that its variables hold, and how far it has come.
 
-    Its phase is new, begun or ended. Begun, it is at the deed at `place`; its pendings are what is to come when the
-    lasts around that are through, outermost first; inner is the number of the giver to which it hands on, or None.
+    Its phase is new, begun or ended. Begun, it is at the deed at `place`, and, where it runs by a code, at the row of
+    number `row`; its pendings are what is to come when the lasts around that are through, outermost first; inner is the
+    number of the giver to which it hands on, or None. By how often it has `handed` on one handing on is told from
+    another; links are what a machine's hall keeps of its chain.
     """
 
     def __init__(self, number, rule, held):
@@ -18,8 +20,11 @@ class Giver:
         self.held = held
         self.phase = "new"
         self.place = None
+        self.row = None
         self.pendings = ()
         self.inner = None
+        self.handed = 0
+        self.links = ()
 
 
 def new_giver(number, rule, worths):
@@ -30,13 +35,28 @@ def new_giver(number, rule, worths):
     return Giver(number, rule, held)
 
 
+def giver_from(number, rule, state, worths):
+    """A giver of the rule as it was kept, in this state with these worths."""
+    giver = Giver(number, rule, dict(zip(variables(rule), worths)))
+    giver.phase = state[0]
+    if state[0] == "stands":
+        giver.phase = "begun"
+        giver.place = stands_of(rule)[state[1] - 1]
+        giver.pendings = state[2]
+        giver.inner = state[3]
+    return giver
+
+
 def copied(giver):
     """Another giver, which is as this one is now."""
     other = Giver(giver.number, giver.rule, dict(giver.held))
     other.phase = giver.phase
     other.place = giver.place
+    other.row = giver.row
     other.pendings = giver.pendings
     other.inner = giver.inner
+    other.handed = giver.handed
+    other.links = giver.links
     return other
 
 
@@ -45,6 +65,7 @@ def end_giver(giver):
     giver.held = {}
     giver.phase = "ended"
     giver.place = None
+    giver.row = None
     giver.pendings = ()
 
 

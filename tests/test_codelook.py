@@ -497,9 +497,15 @@ class ClauseTest(Case):
         rows, guards = code_of(rule)
         inner, outer = guards
         at = rows.index(("deed", (0, 0, 0, 0, 1)))
-        first = (at, at + 1) + outer[2:]
+        first, second = (at, at + 1) + outer[2:], (at, at + 1) + inner[2:]
         self.lets(rule, (rows, (first, inner, outer)))
-        self.shuts(rule, (rows, (first, (inner[0], at + 1) + inner[2:], outer)))
+        self.lets(rule, (rows, (first, second[:4] + (-1,), inner, outer)))
+        self.shuts(rule, (rows, (first, second, inner, outer)))
+        # Without the while around them none would meet it.
+        alone = rule_of(" try\n  try\n   note 1\n  last\n   note 2\n  note 3\n last\n  note 4")
+        rows, (inner, outer) = code_of(alone)
+        at = rows.index(("deed", (0, 0, 1)))
+        self.lets(alone, (rows, ((at, at + 1) + outer[2:], (at, at + 1) + inner[2:], inner, outer)))
 
     def test_guards_over_rows_that_nothing_reaches(self):
         rule = rule_of(" end 1\n try\n  note 1\n last\n  note 2")

@@ -42,6 +42,11 @@ def imports(tree):
     return [node for node in ast.walk(tree) if isinstance(node, ast.ImportFrom)]
 
 
+def called(node):
+    """The name of the def or method that the call calls, where it has one."""
+    return node.func.id if isinstance(node.func, ast.Name) else getattr(node.func, "attr", None)
+
+
 def bound_names(tree):
     """All names that a file binds anywhere."""
     found = {alias.name for row in imports(tree) for alias in row.names}
@@ -127,6 +132,19 @@ class LanguageTest(unittest.TestCase):
                 else:
                     self.assertIsInstance(node, (ast.Expr, ast.ImportFrom), name)
             self.assertEqual(len(found), len(set(found)), name)
+
+    def test_what_is_walked_is_walked_at_once(self):
+        walks = ("list", "tuple", "dict", "sorted", "sum", "any", "all", "enumerate", "zip", "min", "max", "join")
+        for name, tree in trees():
+            at_once = []
+            for node in ast.walk(tree):
+                if isinstance(node, (ast.For, ast.comprehension)):
+                    at_once.append(node.iter)
+                elif isinstance(node, ast.Call) and called(node) in walks:
+                    at_once.extend(node.args)
+            for node in ast.walk(tree):
+                if isinstance(node, ast.Call) and called(node) in ("range", "zip", "enumerate", "reversed", "items", "keys", "values"):
+                    self.assertIn(node, at_once, (name, node.lineno))
 
     def test_methods(self):
         free = set(OWN_METHODS)
